@@ -1,0 +1,1 @@
+"""Passkeep: a kernel of rights."""
