@@ -23,10 +23,17 @@ class Tree:
         # Only ever raised, so that no number is told again behind a cut.
         self.following = 0
 
-    def need_kept(self, number):
+    def keeps(self, number):
         # The number first: 1 and True, or 0 and 0.0, are one key to a dict.
-        if not is_number(number) or number not in self.handles:
+        return is_number(number) and number in self.handles
+
+    def need_kept(self, number):
+        if not self.keeps(number):
             raise NoHandle("no such handle is kept")
+
+    def need_room_below(self, number):
+        if len(self.chain(number)) >= LONGEST_CHAIN:
+            raise TooMany("the chain has as many handles as it may")
 
     def keep(self, thing, rights, giver, holder):
         number = self.following
@@ -42,8 +49,7 @@ class Tree:
         giver = self.handle(number)
         if not within(rights, giver.rights):
             raise Lacks(missing(rights, giver.rights))
-        if len(self.chain(number)) >= LONGEST_CHAIN:
-            raise TooMany("the chain has as many handles as it may")
+        self.need_room_below(number)
         made = self.keep(giver.thing, rights, giver.number, holder)
         self.offspring[number][made] = True
         return made
