@@ -70,6 +70,7 @@ def bound_at_top(tree):
 
 def locals_of(tree):
     names = {node.arg for node in ast.walk(tree) if isinstance(node, ast.arg)}
+    names |= {node.name for node in ast.walk(tree) if isinstance(node, ast.ExceptHandler) and node.name}
     for function in ast.walk(tree):
         if isinstance(function, ast.FunctionDef):
             names |= {n.id for n in ast.walk(function) if isinstance(n, ast.Name) and isinstance(n.ctx, ast.Store)}
